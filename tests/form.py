@@ -1,7 +1,17 @@
-"""Looks through the package's files for what the rules L1 to L28 of its language rule out.
+"""Looks through the package's files for much of what the rules L1 to L28 of its language rule out.
 
 It takes a dict of file names and texts and tells a list of tuples (rule, file, line, words).
-What a rule asks of a value's kind at run time can't be seen here, and isn't looked for.
+No fault told does not mean that every rule is kept. Not looked for, and left to the reader's eye:
+- L4: whether an inner function assigns what it reads from around it;
+- L11: how deep a recursion goes, and words of Python's own error messages;
+- L15: a list or dict of a file's top that is handed on or given back without a copy;
+- L18: a class that is kept in a list or handed on;
+- L19: what stands in a try round which ValueError, LookupError or IndexError is taken;
+- L21: annotations are told as faults everywhere, which is narrower than the rule;
+- L23: a walked thing that is changed under another name;
+- L24: beside which comparison a set stands;
+- L28: all but what __init__ gives back.
+L9 is seen only through the names and imports that L2 and L8 leave.
 """
 
 import ast
