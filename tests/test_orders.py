@@ -98,6 +98,11 @@ class IsSafe(unittest.TestCase):
         self.assertIs(is_safe(NET, BACK, AHEAD, [LEAVES] * 9, []), True)
         self.assertIs(is_safe(NET, BACK, AHEAD, [LEAVES] * 8 + [("never", "xxxx", (0, 0), 0)], []), False)
 
+    def test_books_of_more_than_twelve_rows_are_not_refused_here(self):
+        long = [[("0000", 1, 0)] * 13 + book for book in AHEAD]
+        self.assertIs(is_safe(NET, BACK, long, [LEAVES], [0, 1, 2]), True)
+        self.assertIs(is_safe(NET, BACK, long, [LEAVES], [0]), False)
+
     def test_drawn_sets_and_nothing_is_changed(self):
         source = random.Random(12)
         told_of = {True: 0, False: 0}
