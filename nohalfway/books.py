@@ -1,5 +1,6 @@
 """Books of rows, one for each house, and the row by which a letter goes."""
 
+from nohalfway.errors import NoBooks
 from nohalfway.patterns import fits, is_pattern
 from nohalfway.wholes import is_whole_within
 
@@ -28,6 +29,11 @@ def is_books(thing, net):
     if not isinstance(thing, list) or len(thing) != net.many:
         return False
     return all([is_book(book, net.count(house)) for house, book in enumerate(thing)])
+
+
+def refuse_unless_books(thing, net):
+    if not is_books(thing, net):
+        raise NoBooks("books are a list of one book for each house")
 
 
 def taken(book, door, address):

@@ -77,3 +77,7 @@ class Net:
 
     def is_outer(self, thing):
         return self.is_door(thing) and thing not in self.far
+
+
+def copied_net(net):
+    return Net(list(net.counts), net.wires())

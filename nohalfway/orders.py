@@ -1,7 +1,7 @@
 """In which order houses may be changed one by one, or a paper that shows that there is none."""
 
-from nohalfway.books import is_books
-from nohalfway.errors import NoBooks, NoSaying
+from nohalfway.books import refuse_unless_books
+from nohalfway.errors import NoSaying
 from nohalfway.sayings import is_saying, least_broken, mixed
 
 MOST_SAYINGS = 8
@@ -49,8 +49,8 @@ def least_rest(judge, changing, done, verdicts):
 
 
 def order(net, old, new, sayings):
-    if not is_books(old, net) or not is_books(new, net):
-        raise NoBooks("books are a list of one book for each house")
+    refuse_unless_books(old, net)
+    refuse_unless_books(new, net)
     if not are_sayings(sayings, net):
         raise NoSaying("what must be kept is a list of at most eight sayings")
     verdicts = {}

@@ -1,7 +1,7 @@
 """Sayings, which must be kept, whether books keep them, and books mixed of old ones and new ones."""
 
-from nohalfway.books import is_books
-from nohalfway.errors import NoBooks, NoSaying
+from nohalfway.books import refuse_unless_books
+from nohalfway.errors import NoSaying
 from nohalfway.patterns import addresses, is_pattern
 from nohalfway.ways import walked
 from nohalfway.wholes import is_whole_within
@@ -44,8 +44,7 @@ def least_broken(net, books, saying):
 
 
 def broken(net, books, saying):
-    if not is_books(books, net):
-        raise NoBooks("books are a list of one book for each house")
+    refuse_unless_books(books, net)
     if not is_saying(saying, net):
         raise NoSaying("a saying is a tuple of a word, a pattern, an outer door and what the word asks for")
     return least_broken(net, books, saying)

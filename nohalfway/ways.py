@@ -1,7 +1,7 @@
 """The way of a letter by some books, from the outer door by which it comes in to its end or its ring."""
 
-from nohalfway.books import is_books, taken
-from nohalfway.errors import NoAddress, NoBooks, NoDoor
+from nohalfway.books import refuse_unless_books, taken
+from nohalfway.errors import NoAddress, NoDoor
 from nohalfway.patterns import is_address
 
 
@@ -29,8 +29,7 @@ def walked(net, books, door, address):
 
 
 def way(net, books, door, address):
-    if not is_books(books, net):
-        raise NoBooks("books are a list of one book for each house")
+    refuse_unless_books(books, net)
     if not net.is_outer(door):
         raise NoDoor("a letter comes in by an outer door of the net")
     if not is_address(address):

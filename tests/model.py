@@ -1,5 +1,5 @@
 """What DOC.md says of books, ways, sayings, sets and papers, written a second time and in another manner, so that
-tests can hold the program's answers against it; and right nets, books and sayings drawn by a seeded source."""
+tests can hold the program's answers against it; and right nets, books, sayings and papers drawn by a seeded source."""
 
 import itertools
 
@@ -55,9 +55,9 @@ def way_of(net, books, door, address):
     return (list(places), ("ring", places[door]))
 
 
-def is_so(net, books, saying, address):
+def is_so_by(saying, doors, end):
+    """Whether it is so of a letter with this way and this end."""
     word, pattern, door, *more = saying
-    doors, end = way_of(net, books, door, address)
     houses = {house for house, number in doors}
     return {
         "comes": lambda: end == ("out", *more[0]),
@@ -66,6 +66,10 @@ def is_so(net, books, saying, address):
         "by": lambda: more[0] in houses,
         "never": lambda: more[0] not in houses,
     }[word]()
+
+
+def is_so(net, books, saying, address):
+    return is_so_by(saying, *way_of(net, books, saying[2], address))
 
 
 def broken_of(net, books, saying):
@@ -110,9 +114,9 @@ def line_fault(net, old, new, sayings, line, sets):
         return "no list of houses"
     if houses != sorted(set(houses)) or not set(houses) <= set(changing):
         return "no rising list of changers, each once"
-    if type(told) is not tuple:
-        return "no tuple told"
-    if told == ("safe",):
+    if type(told) is not tuple or not told or type(told[0]) is not str:
+        return "no tuple of a word told"
+    if len(told) == 1 and told[0] == "safe":
         if houses == changing:
             return "all changers, and safe"
         missing = [house for house in changing if house not in houses and sorted(houses + [house]) not in sets]
@@ -131,9 +135,11 @@ def line_fault(net, old, new, sayings, line, sets):
 
 def paper_fault(net, old, new, sayings, paper):
     """Why a paper is wrong, or None, looked through line by line as point 13 has it."""
-    if type(paper) is not list:
-        return "no list"
+    if type(paper) is not list or not all(type(line) is tuple and line for line in paper):
+        return "no list of tuples"
     sets = [line[0] for line in paper]
+    if any(type(houses) is not list or any(type(house) is not int for house in houses) for houses in sets):
+        return "no list of houses"
     if any(sets.count(houses) > 1 for houses in sets):
         return "two lines with the same set"
     if [] not in sets:
@@ -178,3 +184,47 @@ def drawn_saying(source, net):
     if word in ("by", "never"):
         return (*start, source.randrange(net.many))
     return start
+
+
+def drawn_case(source, net_class, most_houses, change=0.75):
+    """A net, old books, new books and sayings."""
+    net = drawn_net(source, net_class, most_houses)
+    old = drawn_books(source, net, source.choice([2, 4]))
+    new = [
+        drawn_book(source, net.count(house), 4) if source.random() < change else list(book)
+        for house, book in enumerate(old)
+    ]
+    return net, old, new, [drawn_saying(source, net) for count in range(source.choice([0, 1, 1, 2, 3, 8]))]
+
+
+def bad_lines(net, old, new, sayings, houses):
+    """Every bad line that this set may have in a right paper."""
+    books = mixed_of(old, new, houses)
+    return [
+        (sorted(houses), ("bad", number, address))
+        for number, saying in enumerate(sayings) for address in range(16)
+        if suits(saying[1], address) and not is_so(net, books, saying, address)
+    ]
+
+
+def drawn_paper(source, net, old, new, sayings, safely=0.3):
+    """A right paper, written in one of the many manners in which it may be, or None where there is none so far as
+    this drawing comes: a set that is not safe is now and then told safe, where it is not that of all changers."""
+    changing = changers_of(old, new)
+    paper, waiting = {}, [()]
+    while waiting:
+        houses = waiting.pop()
+        if houses in paper:
+            continue
+        bad = bad_lines(net, old, new, sayings, houses)
+        further = [tuple(sorted((*houses, house))) for house in changing if house not in houses]
+        if bad and (not further or source.random() >= safely):
+            paper[houses] = source.choice(bad)
+        elif further:
+            paper[houses] = (list(houses), ("safe",))
+            waiting += further
+        else:
+            return None
+    lines = list(paper.values())
+    source.shuffle(lines)
+    return lines

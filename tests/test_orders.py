@@ -3,10 +3,7 @@ import itertools
 import random
 import unittest
 
-from model import (
-    ANYTHING, Stubborn, changers_of, drawn_book, drawn_books, drawn_net, drawn_saying, keeps_all, orders_of,
-    paper_fault,
-)
+from model import ANYTHING, Stubborn, changers_of, drawn_case, keeps_all, orders_of, paper_fault
 from nohalfway.errors import NoBooks, NoSaying
 from nohalfway.nets import Net
 from nohalfway.orders import changers, is_safe, order
@@ -21,16 +18,6 @@ BACK = [[("xxxx", None, 0)], [("xxxx", None, 0)], [("xxxx", None, 0)]]
 # Two houses of which each sends all to the other one or out: where both send to the other one, letters go round.
 TWO = Net([2, 2], [((0, 1), (1, 1))])
 OUT, OVER = [("xxxx", None, 0)], [("xxxx", None, 1)]
-
-
-def drawn_case(source, most_houses, change=0.75):
-    net = drawn_net(source, Net, most_houses)
-    old = drawn_books(source, net, source.choice([2, 4]))
-    new = [
-        drawn_book(source, net.count(house), 4) if source.random() < change else list(book)
-        for house, book in enumerate(old)
-    ]
-    return net, old, new, [drawn_saying(source, net) for count in range(source.choice([0, 1, 1, 2, 3, 8]))]
 
 
 class Changers(unittest.TestCase):
@@ -60,7 +47,7 @@ class Changers(unittest.TestCase):
     def test_drawn_books(self):
         source = random.Random(11)
         for count in range(200):
-            net, old, new, sayings = drawn_case(source, 6, 0.5)
+            net, old, new, sayings = drawn_case(source, Net, 6, 0.5)
             self.assertEqual(changers(old, new), changers_of(old, new))
 
 
@@ -107,7 +94,7 @@ class IsSafe(unittest.TestCase):
         source = random.Random(12)
         told_of = {True: 0, False: 0}
         for count in range(200):
-            case = drawn_case(source, 4)
+            case = drawn_case(source, Net, 4)
             before = copy.deepcopy(case[1:])
             changing = changers_of(case[1], case[2])
             for size in range(len(changing) + 1):
@@ -292,14 +279,14 @@ class AgainstTheModel(unittest.TestCase):
         source = random.Random(13)
         told_of = {}
         for count in range(600):
-            self.look_at(drawn_case(source, 4), told_of)
+            self.look_at(drawn_case(source, Net, 4), told_of)
         self.assertTrue(min(told_of.values()) > 50, told_of)
 
     def test_drawn_changes_whose_old_books_are_safe(self):
         source = random.Random(14)
         told_of = {}
         while sum(told_of.values()) < 120:
-            case = drawn_case(source, 6, 1)
+            case = drawn_case(source, Net, 6, 1)
             if len(changers_of(case[1], case[2])) > 2 and case[3] and keeps_all(*case, []):
                 self.look_at(case, told_of)
         self.assertTrue(min(told_of.values()) > 10, told_of)
